@@ -1,0 +1,1 @@
+"""The errors of the program: there are none, as nothing is refused."""
