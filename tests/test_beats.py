@@ -1,91 +1,10 @@
-"""Tests of beatruns.errors and beatruns.beats: promises 0.3, 0.4, 0.5, 1.1 and 1.2.
+"""Tests of beatruns.beats: promises 0.3, 0.4, 0.5, 1.1 and 1.2."""
 
-The plain counts below follow the document's words letter by letter, and share nothing with the program.
-"""
-
-import importlib
-import inspect
-import itertools
 import string
 import unittest
 
 from beatruns.beats import doubles, is_calm, is_free, is_text, least_beat
-
-
-def plain_is_beat(letters, beat):
-    return all(letters[at] == letters[at + beat] for at in range(len(letters)) if at + beat < len(letters))
-
-
-def plain_least_beat(text):
-    return min(beat for beat in range(1, len(text) + 1) if plain_is_beat(text, beat))
-
-
-def plain_doubles(text):
-    pairs = []
-    for place in range(len(text)):
-        for half in range(1, len(text) + 1):
-            if place + 2 * half > len(text):
-                continue
-            if all(text[place + at] == text[place + half + at] for at in range(half)):
-                pairs.append((place, half))
-    return tuple(sorted(pairs))
-
-
-def plain_is_calm(text):
-    for first in range(len(text)):
-        for end in range(first + 3, len(text) + 1):
-            stretch = text[first:end]
-            for beat in range(1, len(stretch) + 1):
-                if len(stretch) > 2 * beat and plain_is_beat(stretch, beat):
-                    return False
-    return True
-
-
-def grown(first, put, length):
-    """The first letters of what comes when each letter is replaced by its put text, over and over."""
-    text = first
-    while len(text) < length:
-        text = "".join(put[letter] for letter in text)
-    return text[:length]
-
-
-def calm_letters(length):
-    return grown("a", {"a": "ab", "b": "ba"}, length)
-
-
-def free_letters(length):
-    return grown("a", {"a": "abc", "b": "ac", "c": "b"}, length)
-
-
-def golden_letters(length):
-    return grown("a", {"a": "ab", "b": "a"}, length)
-
-
-def short_texts():
-    for letters, most in (("ab", 10), ("abc", 6), ("azmk", 4)):
-        for length in range(most + 1):
-            for signs in itertools.product(letters, repeat=length):
-                yield "".join(signs)
-
-
-def long_texts():
-    for length in (11, 29, 30, 31, 32, 59, 60, 61):
-        yield "a" * length
-        yield "z" * (length - 1) + "a"
-        yield "a" + "z" * (length - 1)
-        yield ("abcde" * length)[:length]
-        yield (string.ascii_lowercase * 3)[:length]
-        yield calm_letters(length)
-        yield free_letters(length)
-        yield golden_letters(length)
-    yield free_letters(30) * 2
-    yield calm_letters(29) + "c" + calm_letters(29) + "c"
-    yield free_letters(20) * 3
-
-
-def all_texts():
-    yield from short_texts()
-    yield from long_texts()
+from plain_counts import all_texts, calm_letters, free_letters, long_texts, plain_doubles, plain_is_calm, plain_least_beat
 
 
 def nested(core, depth, kinds):
@@ -267,17 +186,7 @@ class IsCalmTest(unittest.TestCase):
             self.assertIs(is_calm(text), plain_is_calm(text), text)
 
 
-class InterfaceTest(unittest.TestCase):
-    def test_names_and_arguments(self):
-        module = importlib.import_module("beatruns.beats")
-        for name, argument in (
-            ("is_text", "thing"), ("least_beat", "text"), ("doubles", "text"), ("is_free", "text"), ("is_calm", "text"),
-        ):
-            self.assertEqual(list(inspect.signature(getattr(module, name)).parameters), [argument], name)
-
-    def test_errors_is_there(self):
-        importlib.import_module("beatruns.errors")
-
+class AskedAgainTest(unittest.TestCase):
     def test_asked_again(self):
         texts = list(long_texts())
         for ask in (is_text, least_beat, doubles, is_free, is_calm):
