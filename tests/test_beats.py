@@ -4,7 +4,9 @@ import string
 import unittest
 
 from beatruns.beats import doubles, is_calm, is_free, is_text, least_beat
-from plain_counts import all_texts, calm_letters, free_letters, long_texts, plain_doubles, plain_is_calm, plain_least_beat
+from plain_counts import (
+    all_texts, calm_letters, free_letters, long_texts, plain_doubles, plain_is_calm, plain_least_beat,
+)
 
 
 def nested(core, depth, kinds):
